@@ -1,0 +1,1 @@
+"""Formlens: one record shown in many forms."""

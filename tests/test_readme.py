@@ -1,0 +1,12 @@
+import doctest
+import pathlib
+import unittest
+
+README = pathlib.Path(__file__).resolve().parent.parent / "README.md"
+
+
+class TestReadme(unittest.TestCase):
+    def test_examples_tell_what_the_program_does(self):
+        failed, tried = doctest.testfile(str(README), module_relative=False)
+        self.assertGreater(tried, 0)
+        self.assertEqual(failed, 0)
